@@ -1,0 +1,1 @@
+"""Twinless: whole numbers as rows of marks in which no two neighbours stand."""

@@ -1,0 +1,9 @@
+"""The refusals of the program."""
+
+
+class TwinError(ValueError):
+    pass
+
+
+class BadCode(TwinError):
+    pass
