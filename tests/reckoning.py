@@ -40,3 +40,27 @@ def twinless_rows(places):
 def golden_low(count):
     """The low number of a count: the count times the golden ratio, rounded down."""
     return (count + isqrt(5 * count * count)) // 2
+
+
+def is_lost(one, other):
+    """Whether who is to move with these two heaps has lost: the less is the low number of their difference."""
+    return min(one, other) == golden_low(abs(one - other))
+
+
+def spelt(length):
+    """A beginning of the endless word, each beginning followed by the one ahead of it: ab, then aba, then abaab .."""
+    shorter, longer = "a", "ab"
+    while len(longer) < length:
+        shorter, longer = longer, longer + shorter
+    return longer[:length]
+
+
+def golden_counts(n):
+    """How many signs a and b the beginning of n signs has: n over the golden ratio, rounded up, and the others."""
+    signs_a = golden_low(n + 1) - (n + 1)
+    return (signs_a, n - signs_a)
+
+
+def golden_piece(k, n):
+    counts = [golden_counts(place)[0] for place in range(k, k + n + 1)]
+    return "".join("a" if behind > ahead else "b" for ahead, behind in zip(counts, counts[1:]))

@@ -1,6 +1,6 @@
 """The package's files keep to the small part of Python that they are to be written in.
 
-Checked is what can be seen at once: files, signs, sizes, imports, statements, names and methods.
+Checked is what can be seen at once: files, signs, sizes, imports, statements, names, methods and sets.
 """
 
 import ast
@@ -54,6 +54,26 @@ def bound_names(node):
     return []
 
 
+def stands_straight_within(node, other):
+    """Whether the same code stands as what sorted or len is called with, or beside in, == or !=."""
+    if isinstance(other, ast.Call) and ast.unparse(other.func) in ("sorted", "len") and not other.keywords:
+        parts = other.args
+    elif isinstance(other, ast.Compare) and isinstance(other.ops[0], (ast.In, ast.NotIn, ast.Eq, ast.NotEq)):
+        parts = [other.left] + other.comparators
+    else:
+        parts = []
+    return any(ast.dump(part, include_attributes=True) == ast.dump(node, include_attributes=True) for part in parts)
+
+
+def draws_from():
+    """The modules that each module imports from."""
+    drawn = {"twinless." + path.stem: [] for path in files()}
+    for name, node in nodes():
+        if isinstance(node, ast.ImportFrom):
+            drawn["twinless." + name[:-3]].append(node.module)
+    return drawn
+
+
 class Form(unittest.TestCase):
     def test_nothing_but_plain_python_files(self):
         names = [path.name for path in PACKAGE.iterdir() if path.name != "__pycache__"]
@@ -77,6 +97,25 @@ class Form(unittest.TestCase):
                 self.assertEqual(node.level, 0, name)
                 self.assertIn(node.module, modules, name)
                 self.assertNotIn("*", [alias.name for alias in node.names], name)
+
+    def test_no_two_files_draw_from_one_another(self):
+        drawn = draws_from()
+        while drawn:
+            free = [module for module in drawn if not any(other in drawn for other in drawn[module])]
+            self.assertNotEqual(free, [])
+            drawn = {module: others for module, others in drawn.items() if module not in free}
+
+    def test_imported_names_are_drawn_from_where_they_are_defined_and_bound_nowhere_else(self):
+        defined = {path.stem: [node.name for node in ast.parse(path.read_text("utf-8")).body if hasattr(node, "name")]
+                   for path in files()}
+        for path in files():
+            here = [node for name, node in nodes() if name == path.name]
+            bound = [name for node in here for name in bound_names(node)]
+            self.assertEqual(len(defined[path.stem]), len(set(defined[path.stem])), path.name)
+            for node in here:
+                for alias in node.names if isinstance(node, ast.ImportFrom) else []:
+                    self.assertIn(alias.name, defined[node.module.split(".")[1]], path.name)
+                    self.assertNotIn(alias.name, bound, path.name)
 
     def test_statements_and_expressions(self):
         for name, node in nodes():
@@ -105,6 +144,22 @@ class Form(unittest.TestCase):
                 self.assertIn(node.id, BUILTINS, where)
             if isinstance(node, ast.Call) and isinstance(node.func, ast.Attribute):
                 self.assertIn(node.func.attr, METHODS | own, where)
+
+    def test_texts_powers_and_is(self):
+        for name, node in nodes():
+            where = f"{name}:{getattr(node, 'lineno', 0)}"
+            if isinstance(node, ast.Constant) and isinstance(node.value, str):
+                self.assertNotIn("%", node.value, where)
+            if isinstance(node, ast.BinOp) and isinstance(node.op, ast.Pow):
+                self.assertIsInstance(node.right, ast.Constant, where)
+            if isinstance(node, ast.Compare) and isinstance(node.ops[0], (ast.Is, ast.IsNot)):
+                self.assertIn(ast.unparse(node.comparators[0]), ("None", "True", "False"), where)
+
+    def test_a_set_is_sorted_measured_or_asked_on_the_spot(self):
+        for name, node in nodes():
+            if isinstance(node, ast.Call) and ast.unparse(node.func) == "set":
+                around = [other for file, other in nodes() if file == name and stands_straight_within(node, other)]
+                self.assertEqual(len(around), 1, f"{name}:{node.lineno}")
 
 
 if __name__ == "__main__":
